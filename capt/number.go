@@ -2,6 +2,7 @@ package capt
 
 import (
 	"bailiwick/api"
+	"bailiwick/num"
 	"bailiwick/space"
 	"bailiwick/txn"
 	"bailiwick/within"
@@ -34,10 +35,11 @@ func Number(t *txn.Txn, n int) (int, api.Errno) {
 		if !is {
 			return 0, api.OK
 		}
-		if len(value) != numberSize {
+		last, rest, e := num.Take(value, numberSize)
+		if e != api.OK || rest != "" {
 			return 0, api.ErrForm
 		}
-		return int(value[0])<<16 | int(value[1])<<8 | int(value[2]), api.OK
+		return int(last), api.OK
 	})
 }
 
@@ -55,5 +57,6 @@ func newNumber(t *txn.Txn, meta int) (int, api.Errno) {
 
 // giveNumber writes that a number was given.
 func giveNumber(t *txn.Txn, meta, n int) {
-	t.Put(keyOf(space.Meta, 0, meta), string([]byte{byte(n >> 16), byte(n >> 8), byte(n)}))
+	value, _ := num.Put(uint64(n), numberSize)
+	t.Put(keyOf(space.Meta, 0, meta), value)
 }
