@@ -10,6 +10,7 @@ import (
 	"bailiwick/capt"
 	"bailiwick/disk"
 	"bailiwick/intent"
+	"bailiwick/node"
 	"bailiwick/rec"
 	"bailiwick/shadow"
 	"bailiwick/slot"
@@ -367,6 +368,33 @@ func TestGreatKid(t *testing.T) {
 		t.Error(n, e)
 	}
 	b.hasKeys(space.Stack, [3]any{1, 0, "\x00\x00\x01"}, [3]any{1, 1, ""})
+}
+
+// Every call ends: in a tree that is not sound a key may be seen that can't be deleted.
+func TestUnsound(t *testing.T) {
+	d, _ := disk.New(20)
+	s, _ := shadow.Format(d)
+	lay := func(n node.Node) int {
+		text, e := node.Encode(n)
+		page, _ := s.Take()
+		if e != api.OK || s.Write(page, 2, text) != api.OK {
+			t.Fatal(e)
+		}
+		return page
+	}
+	here := lay(node.Node{
+		Leaf: true,
+		Keys: []uint64{key(space.Intent, 0, 1), key(space.Stack, 1, 0), key(space.Stack, 1, 2)},
+		Vals: []string{"\x00\x00\x09\x01", "\x00\x00\x09", "\x00\x00\x09"},
+	})
+	there := lay(node.Node{Leaf: true, Keys: []uint64{key(space.Meta, 0, 9)}, Vals: []string{""}})
+	root := lay(node.Node{Keys: []uint64{key(space.Stack, 1, 2)}, Kids: []int{here, there}})
+	if e := s.Commit(root); e != api.OK {
+		t.Fatal(e)
+	}
+	if n, e := intent.Step(txn.Begin(s), 1); n != 0 || e != api.ErrForm {
+		t.Error(n, e)
+	}
 }
 
 // P18.3: with as many steps as are enough just what was revoked, and what is below, is gone.

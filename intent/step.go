@@ -9,6 +9,9 @@ import (
 	"bailiwick/within"
 )
 
+// mostTurns is more than a sound tree ever needs, of so many pages. In another one a key may be seen that can't be deleted.
+const mostTurns = 1 << 16
+
 // place is a cap on a stack.
 type place struct{ depth, cap int }
 
@@ -24,7 +27,10 @@ type intent struct {
 func Step(t *txn.Txn, chunk int) (swept int, e api.Errno) {
 	return within.Value(t, func() (int, api.Errno) {
 		swept := 0
-		for swept < chunk {
+		for turns := 0; swept < chunk; turns++ {
+			if turns == mostTurns {
+				return 0, api.ErrForm
+			}
 			in, is, e := first(t)
 			if e != api.OK {
 				return 0, e
