@@ -183,6 +183,19 @@ func TestBoot(t *testing.T) {
 	}
 }
 
+// P23.1: all keys are told, rising, whatever they are for.
+func TestAll(t *testing.T) {
+	d := newDisk(t, 20)
+	lay(t, d, 15, api.MaxClock, 1<<32-1, "last")
+	lay(t, d, 0, 0, 0, "first")
+	lay(t, d, 5, 3, 2, "")
+	c := boot(t, d)
+	want := []api.Entry{{Key: 0, Value: "first"}, {Key: 0x5000000300000002}, {Key: 1<<64 - 1, Value: "last"}}
+	if got := c.all(); !slices.Equal(got, want) {
+		t.Error(got)
+	}
+}
+
 // P23.1: sessions and draws.
 func TestSessionsDraws(t *testing.T) {
 	c := boot(t, newDisk(t, 20))

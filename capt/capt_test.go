@@ -484,6 +484,9 @@ func TestRemove(t *testing.T) {
 	top := b.mint(ann, 7, 50)
 	kid := b.derive(top, bob, 7, 40)
 	b.unchanged(api.ErrState, func() api.Errno { return capt.Remove(b.x, top) })
+	b.put(space.Kid, kid, 0, "") // a child, though of no number that a cap has
+	b.unchanged(api.ErrState, func() api.Errno { return capt.Remove(b.x, kid) })
+	b.x.Delete(key(space.Kid, kid, 0))
 	for _, id := range []int{0, -1, 99, far} {
 		b.unchanged(api.ErrNone, func() api.Errno { return capt.Remove(b.x, id) })
 	}
@@ -560,13 +563,15 @@ func TestMove(t *testing.T) {
 	b.unchanged(api.OK, move(kid, other, 0))
 	weak := b.mint(ann, 1, 0)
 	b.unchanged(api.ErrRights, move(kid, weak, 0))
+	last := b.derive(other, ann, 1, 0)
 	capt.Revoke(b.x, from, false)
 	b.unchanged(api.ErrState, move(kid, from, 0))
+	b.unchanged(api.ErrState, move(last, from, 0))
 	late := b.derive(other, ann, 1, 0)
 	if e := capt.Move(b.x, late, from, 0); e != api.OK {
 		t.Error(e)
 	}
-	b.have(ann, 7)
+	b.have(ann, 8)
 }
 
 // P15.4: nothing is moved deeper than it may be.

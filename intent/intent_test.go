@@ -318,6 +318,26 @@ func TestStepElsewhere(t *testing.T) {
 	b.hasKeys(space.Kid)
 }
 
+// P18.2: a stack is MaxDepth deep at most.
+func TestStepDeep(t *testing.T) {
+	for length, want := range map[int]api.Errno{9: api.OK, 10: api.ErrForm} {
+		b := newBed(t, 60)
+		for id := 1; id <= length; id++ {
+			c := api.Cap{ID: id, Parent: id - 1, Object: 3, Owner: 1, Depth: min(id, 8)}
+			value, e := rec.PutCap(c)
+			if e != api.OK {
+				t.Fatal(e)
+			}
+			b.put(space.Cap, 0, id, value)
+			b.put(space.Kid, id-1, id, "")
+		}
+		b.begin(1, true, 1)
+		if n, e := intent.Step(b.x, 99); e != want || e == api.OK && n != length || e != api.OK && n != 0 {
+			t.Error(length, n, e)
+		}
+	}
+}
+
 // Intents and stacks that are none.
 func TestForm(t *testing.T) {
 	deep := func(b *bed) {

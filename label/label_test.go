@@ -20,7 +20,7 @@ func TestRunes(t *testing.T) {
 // P2.1: which labels are right.
 func TestRight(t *testing.T) {
 	right := []string{
-		"a", "Z", "0", "Alice.Smith", "a-b", "a--b", "a.b.c", "a-.-b", "À", "ſ", "\u00d7", "\u00f7", "\u00c0", "\u017f",
+		"a", "z", "A", "Z", "0", "9", "Alice.Smith", "a-b", "a--b", "a.b.c", "a-.-b", "À", "ſ", "\u00d7", "\u00f7", "\u00c0", "\u017f",
 		strings.Repeat("a", 16), strings.Repeat("é", 16),
 	}
 	wrong := []string{

@@ -147,6 +147,12 @@ func TestRenew(t *testing.T) {
 			t.Error(c, got)
 		}
 	}
+	if e := lease.Renew(x, one, 1, 0); e != api.OK || !slices.Equal(leases(x), [][2]int{{1, one}, {api.MaxClock, two}}) {
+		t.Error(e, leases(x))
+	}
+	if e := lease.Renew(x, one, 0, 0); e != api.OK || !slices.Equal(leases(x), [][2]int{{api.MaxClock, two}}) {
+		t.Error(e, leases(x))
+	}
 	capt.Revoke(x, one, false)
 	unchanged(t, x, api.ErrRevoked, renew(two, -1, 49))
 }
@@ -162,7 +168,7 @@ func TestDue(t *testing.T) {
 		now, most int
 		want      []int
 	}{
-		{29, 9, []int{5, 1, 9, 1 << 24}}, {30, 9, []int{5, 1, 9, 1 << 24, 2}}, {30, 2, []int{5, 1}}, {9, 9, []int{5}}, {0, 9, []int{5}}, {-1, 9, nil},
+		{29, 9, []int{5, 1, 9, 1 << 24}}, {30, 9, []int{5, 1, 9, 1 << 24, 2}}, {30, 2, []int{5, 1}}, {30, 1, []int{5}}, {9, 9, []int{5}}, {0, 9, []int{5}}, {-1, 9, nil},
 		{30, 0, nil}, {30, -1, nil}, {far, far, []int{5, 1, 9, 1 << 24, 2, 4}}, {-far - 1, 9, nil}, {api.MaxClock, 6, []int{5, 1, 9, 1 << 24, 2, 4}},
 	} {
 		if got, e := lease.Due(x, c.now, c.most); !slices.Equal(got, c.want) || e != api.OK {

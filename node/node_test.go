@@ -341,8 +341,14 @@ func TestBroken(t *testing.T) {
 		for _, m := range broken {
 			node.Join(n, 1, m)
 		}
-		node.Join(n, 1, leaf(list(1), ""))
-		node.Join(branch(nil, 2), 1, n)
+		for _, m := range []node.Node{leaf(list(1), ""), branch(nil, 2)} {
+			if _, ok := node.Join(n, 1, m); ok {
+				t.Errorf("%v is joined", n)
+			}
+			if _, ok := node.Join(m, 1, n); ok {
+				t.Errorf("%v is joined", n)
+			}
+		}
 	}
 }
 

@@ -25,6 +25,8 @@ var asked = []struct {
 }{
 	{proto.Hello{Name: "Ann"}, 1, "\x03Ann", false, false},
 	{proto.Register{Name: "é", Limit: 1000}, 2, "\x02\xc3\xa9\x03\xe8", false, true},
+	{proto.Register{Name: "a"}, 2, "\x01a\x00\x00", false, true},
+	{proto.Mint{Object: 1}, 3, "\x00\x00\x01\x00" + strings.Repeat("\x00", 8), false, true},
 	{proto.Mint{Object: 258, Rights: 5, Badge: 1<<32 - 1, Expiry: api.MaxClock}, 3, "\x00\x01\x02\x02ac\xff\xff\xff\xff\x0f\xff\xff\xff", false, true},
 	{proto.Mint{Object: api.MaxID, Rights: 65535}, 3, "\xff\xff\xff\x10abcdefghijklmnop" + strings.Repeat("\x00", 8), false, true},
 	{proto.Derive{Handle: h1, Name: "bob", Rights: 0, Badge: 1, Expiry: 2}, 4, h1 + "\x03bob\x00\x00\x00\x00\x01\x00\x00\x00\x02", true, true},

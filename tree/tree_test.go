@@ -462,6 +462,47 @@ func TestDeleteLow(t *testing.T) {
 	}
 }
 
+// P11.2, P11.3: 240 bytes are one page, 241 are two.
+func TestEdge(t *testing.T) {
+	for size, whole := range map[int]bool{240: true, 241: false} {
+		value := strings.Repeat("x", size-1-4*49-9)
+		b := newBed(t, 40)
+		for key := uint64(1); key <= 4; key++ {
+			b.put(key, long)
+		}
+		b.put(5, value)
+		if list, _ := tree.Pages(b.s, b.root); (len(list) == 1) != whole {
+			t.Error("put", size, list)
+		}
+		b = newBed(t, 40)
+		left := node.Node{Leaf: true, Keys: []uint64{1, 2}, Vals: []string{long, ""}}
+		right := node.Node{Leaf: true, Keys: []uint64{11, 12, 13, 14}, Vals: []string{long, long, long, value[:size-206]}}
+		b.root = b.lay(branch(b.lay(left), b.lay(right)))
+		b.commit()
+		b.delete(2) // the left one has 50 bytes, both have so many
+		if list, _ := tree.Pages(b.s, b.root); (len(list) == 1) != whole {
+			t.Error("delete", size, list)
+		}
+	}
+}
+
+// P11.3: a neighbour may be as deep as any page.
+func TestDeleteDeep(t *testing.T) {
+	b := newBed(t, 40)
+	b.root = b.lay(branch(b.lay(leaf("a", 1, 2)), b.lay(leaf("b", 11))))
+	for range 8 {
+		b.root = b.lay(branch(b.root))
+	}
+	b.commit()
+	b.delete(1)
+	if list, e := tree.Scan(b.s, b.root, 0, 9); len(list) != 2 || e != api.OK {
+		t.Error(list, e)
+	}
+	if list, e := tree.Pages(b.s, b.root); len(list) != 9 || e != api.OK {
+		t.Error(list, e)
+	}
+}
+
 // P11.3: branches are put together too, with the key between.
 func TestDeleteBranches(t *testing.T) {
 	b := newBed(t, 40)
